@@ -1,0 +1,1 @@
+"""Springframe: panes laid out by ranked wishes."""
