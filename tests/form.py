@@ -34,11 +34,13 @@ def faults(package, files):
     trees = {name: ast.parse(text) for name, text in files.items()}
     methods = METHODS | {item.name for tree in trees.values() for kind in classes(tree)
                          for item in kind.body if isinstance(item, ast.FunctionDef)}
+    own_classes = {kind.name for tree in trees.values() for kind in classes(tree)}
     for name, text in files.items():
         told = (file_faults(name, text) + top_faults(trees[name]) + node_faults(trees[name], methods)
-                + name_faults(trees[name]) + import_faults(package, trees[name], trees))
+                + name_faults(trees[name]) + import_faults(package, trees[name], trees)
+                + place_faults(trees[name], own_classes))
         found += [f"{name}: {fault}" for fault in told]
-    return found + ring_faults(package, trees)
+    return found + ring_faults(package, trees) + field_faults(trees)
 
 
 def classes(tree):
@@ -69,6 +71,7 @@ def top_faults(tree):
     for node in tree.body:
         if isinstance(node, ast.Assign):
             bound += [target.id for target in node.targets if isinstance(target, ast.Name)]
+            found += value_faults(node.value)
         elif isinstance(node, (ast.FunctionDef, ast.ClassDef)):
             bound.append(node.name)
         elif isinstance(node, ast.ImportFrom):
@@ -77,6 +80,18 @@ def top_faults(tree):
             found.append(f"L3 line {node.lineno} does something at the top")
     found += [f"L15 {name} is bound twice" for name in set(bound) if bound.count(name) > 1]
     return found
+
+
+def value_faults(value):
+    """The faults of a value at a file's top."""
+    try:
+        plain = ast.literal_eval(value)
+    except ValueError:
+        return [f"L3 line {value.lineno} has no plain value"]
+    inner = plain.values() if isinstance(plain, dict) else plain if isinstance(plain, list) else ()
+    if any(isinstance(thing, (list, dict, set)) for thing in inner):
+        return [f"L15 line {value.lineno} holds what can be changed"]
+    return []
 
 
 def node_faults(tree, methods):
@@ -94,7 +109,7 @@ def one_node(node, methods):
         return [f"L7 an expression {type(node).__name__}"]
     looks = {ast.FunctionDef: function_faults, ast.ClassDef: class_faults, ast.Constant: constant_faults,
              ast.BinOp: reckoning_faults, ast.Compare: comparison_faults, ast.ListComp: walk_faults,
-             ast.ExceptHandler: handler_faults}
+             ast.ExceptHandler: handler_faults, ast.FormattedValue: shown_faults}
     if type(node) in looks:
         return looks[type(node)](node)
     if isinstance(node, (ast.For, ast.While)) and node.orelse:
@@ -117,6 +132,10 @@ def function_faults(node):
         found.append("L4 a decorator")
     if node.end_lineno - node.lineno + 1 > 40:
         found.append("L10 more than 40 lines in a function")
+    if node.returns or any(given.annotation for given in given.args):
+        found.append("L21 an annotation")
+    if node.name == "__init__" and any(isinstance(inner, ast.Return) for inner in ast.walk(node)):
+        found.append("L28 an __init__ that gives something back")
     return found
 
 
@@ -162,6 +181,12 @@ def comparison_faults(node):
 def walk_faults(node):
     if len(node.generators) > 1 or len(node.generators[0].ifs) > 1:
         return ["L7 a comprehension of several steps"]
+    return []
+
+
+def shown_faults(node):
+    if not isinstance(node.value, ast.Name) or node.format_spec or node.conversion not in (-1, ord("r")):
+        return ["L7 more than a name in an f-string's braces"]
     return []
 
 
@@ -221,3 +246,111 @@ def ring_faults(package, trees):
         for name in drawn:
             drawn[name] |= {far for near in drawn[name] for far in drawn.get(near, ())}
     return [f"{name}: L16 draws from itself" for name in drawn if name in drawn[name]]
+
+
+WALKED = {"zip", "enumerate", "reversed", "range"}
+WALKED_METHODS = {"items", "keys", "values"}
+WALKERS = {"list", "tuple", "dict", "sorted", "sum", "any", "all", "enumerate", "zip"}
+KEYWORDS = {"sorted": {"key", "reverse"}, "min": {"key", "default"}, "max": {"key", "default"}, "sum": {"start"},
+            "enumerate": {"start"}, "zip": {"strict"}}
+OF_PYTHON = {name for kind in (str, int, list, dict, set, frozenset, tuple, bytes, bytearray) for name in dir(kind)}
+VALUES = set("count index title find get join lower upper split strip copy add".split())
+
+
+def called(node):
+    """The name that a call calls, or a text without signs."""
+    if not isinstance(node, ast.Call):
+        return ""
+    return node.func.id if isinstance(node.func, ast.Name) else ""
+
+
+def place_faults(tree, own_classes):
+    """The faults of things that may stand only at some places."""
+    above = {}
+    for node in ast.walk(tree):
+        for inner in ast.iter_child_nodes(node):
+            above[inner] = node
+    found = []
+    for node in ast.walk(tree):
+        line = getattr(node, "lineno", 0)
+        if is_walked(node) and not walked_at_once(node, above):
+            found.append(f"L23 kept and not walked (line {line})")
+        if (called(node) in ("set", "frozenset") or isinstance(node, ast.Set)) and not asked_at_once(node, above):
+            found.append(f"L24 a set that is kept or walked (line {line})")
+        if isinstance(node, ast.Name) and isinstance(node.ctx, ast.Load):
+            if node.id in own_classes and not class_used(node, above):
+                found.append(f"L18 the class {node.id} is handed on (line {line})")
+            if node.id in BUILT_IN and not built_in_used(node, above):
+                found.append(f"L22 {node.id} is handed on (line {line})")
+        if called(node) in BUILT_IN:
+            wrong = {word.arg for word in node.keywords} - KEYWORDS.get(called(node), set())
+            found += [f"L22 the keyword {word} (line {line})" for word in wrong]
+        if isinstance(node, ast.Attribute) and node.attr in METHODS - VALUES and isinstance(node.ctx, ast.Load):
+            if not (isinstance(above[node], ast.Call) and above[node].func is node):
+                found.append(f"L25 the method {node.attr} is handed on (line {line})")
+    return found
+
+
+def is_walked(node):
+    if called(node) in WALKED:
+        return True
+    return isinstance(node, ast.Call) and isinstance(node.func, ast.Attribute) and node.func.attr in WALKED_METHODS
+
+
+def walked_at_once(node, above):
+    near = above[node]
+    if isinstance(near, (ast.For, ast.comprehension)):
+        return near.iter is node
+    if called(near) in ("min", "max"):
+        return near.args == [node]
+    if called(near) == "zip":
+        return True
+    if isinstance(near, ast.Call) and isinstance(near.func, ast.Attribute) and near.func.attr == "join":
+        return isinstance(near.func.value, ast.Constant)
+    return called(near) in WALKERS and near.args[:1] == [node]
+
+
+def asked_at_once(node, above):
+    near = above[node]
+    if isinstance(near, ast.BinOp):
+        return asked_at_once(near, above)
+    if isinstance(near, ast.Compare):
+        return True
+    return called(near) in ("sorted", "len") and near.args == [node] and not near.keywords
+
+
+def class_used(node, above):
+    near = above[node]
+    if isinstance(near, ast.Tuple):
+        return isinstance(above[near], ast.ExceptHandler) or called(above[near]) == "isinstance"
+    if isinstance(near, ast.Attribute):
+        return near.attr == "__init__"
+    if isinstance(near, ast.Call):
+        return near.func is node or called(near) == "isinstance"
+    return isinstance(near, (ast.ClassDef, ast.ExceptHandler, ast.Raise))
+
+
+def built_in_used(node, above):
+    near = above[node]
+    if isinstance(near, ast.Tuple):
+        near = above[near]
+    if isinstance(near, ast.Call):
+        return near.func is node or called(near) == "isinstance"
+    return isinstance(near, (ast.ClassDef, ast.ExceptHandler, ast.Raise, ast.keyword))
+
+
+def field_faults(trees):
+    """The faults of the names of methods and of the values of objects, in the whole package."""
+    found = []
+    methods = {item.name for tree in trees.values() for kind in classes(tree) for item in kind.body
+               if isinstance(item, ast.FunctionDef)}
+    values = {node.attr for tree in trees.values() for node in ast.walk(tree)
+              if isinstance(node, ast.Attribute) and isinstance(node.ctx, ast.Store)}
+    found += [f"package: L18 {name} is a method and a value" for name in methods & values]
+    found += [f"package: L26 the method {name}" for name in methods & OF_PYTHON - METHODS - DUNDERS - {"add", "discard"}]
+    found += [f"package: L26 the value {name}" for name in values & (OF_PYTHON | {"args"}) - VALUES]
+    for tree in trees.values():
+        for kind in classes(tree):
+            names = [item.name for item in kind.body if isinstance(item, ast.FunctionDef)]
+            found += [f"package: L18 the method {name} stands twice" for name in set(names) if names.count(name) > 1]
+    return found
