@@ -2,7 +2,8 @@
 
 from springframe.errors import NoWish
 from springframe.figures import is_whole, read_number
-from springframe.wishes import MOST_WEIGHT, RANKS, AtLeast, AtMost, Just
+from springframe.rows import MOST_WEIGHT
+from springframe.wishes import RANKS, AtLeast, AtMost, Just
 from springframe.words import ACROSS, DOWN, FRAME, SPANS, Edge, Minus, Number, Plus, Times, is_name
 
 MOST_WORDS = 60

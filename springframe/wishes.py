@@ -1,12 +1,12 @@
 """Wishes: what is asked of two terms, and how much it counts."""
 
 from springframe.errors import Mixed
-from springframe.parts import NOUGHT, minus, under
-from springframe.sums import reduced, value_at
+from springframe.parts import NOUGHT, minus
+from springframe.rows import missed
+from springframe.sums import reduced
 
 # By their places: a wish of rank 2 is a strong one.
 RANKS = ("must", "hand", "strong", "fair", "faint")
-MOST_WEIGHT = 1000000
 
 
 class Wish:
@@ -28,23 +28,14 @@ class Wish:
         """The direction of the wish."""
         return "down" if "down" in self.near.ways() + self.far.ways() else "across"
 
-    def lead(self):
-        """Near less far, as a sum."""
-        return reduced(self.near.worth(), self.far.worth())
-
     def row(self):
         """The wish as a tuple (parts, kind, number, rank, weight)."""
-        lead = self.lead()
+        lead = reduced(self.near.worth(), self.far.worth())
         return (lead[0], self.kind(), minus(NOUGHT, lead[1]), self.rank, self.weight)
 
     def missed(self, placing):
         """By how much the wish is missed at the placing."""
-        lead = value_at(self.lead(), placing)
-        if under(lead, NOUGHT) and self.kind() != "most":
-            return minus(NOUGHT, lead)
-        if under(NOUGHT, lead) and self.kind() != "least":
-            return lead
-        return NOUGHT
+        return missed(self.row(), placing)
 
     def text(self):
         """The wish as it is written."""
