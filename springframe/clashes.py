@@ -2,6 +2,7 @@
 
 from springframe.errors import Clash
 from springframe.parts import NOUGHT, over
+from springframe.rows import MUST
 from springframe.tables import settled_musts
 
 
@@ -34,5 +35,5 @@ def fitted(rows, unknowns, numbers):
     sheet = settled_musts([rows[number] for number in numbers], unknowns)
     if sheet.value(0) == NOUGHT:
         return sheet
-    clash = least_clash(rows, unknowns, [number for number in numbers if rows[number][3] == 0])
+    clash = least_clash(rows, unknowns, [number for number in numbers if rows[number][3] == MUST])
     raise Clash(list(clash), list(clash.values()))

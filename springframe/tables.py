@@ -44,7 +44,7 @@ class Table:
                 left = [one - cost * other for one, other in zip(left, line)]
         return left
 
-    def lower(self, costs):
+    def go_down(self, costs):
         """Goes where the costs are least; tells the column along which they fall without end, None if there is none."""
         column = self.falling(costs)
         while column is not None:
@@ -77,7 +77,7 @@ class Table:
         other = self.lines[best]
         one_way = line[-1] * other[column]
         other_way = other[-1] * line[column]
-        # Of lines that stop at once the one with the first column goes: by any other rule the corners could come again.
+        # Of lines that stop at once the one with the first column goes, lest corners come again.
         return one_way < other_way or (one_way == other_way and self.solved[number] < self.solved[best])
 
     def turn(self, number, column):
@@ -183,7 +183,7 @@ class Sheet:
         """Brings the goal with these costs to its least, for good; None, or where it falls without end, the way."""
         scale = common_bottom(costs)
         numbers = whole_numbers(costs, scale)
-        column = self.table.lower(numbers)
+        column = self.table.go_down(numbers)
         if column is not None:
             fall = part(-self.table.costs_left(numbers)[column], scale * self.table.bottom)
             return self.way_along(column, fall)

@@ -34,7 +34,7 @@ class TestTable(unittest.TestCase):
 
     def test_down_to_the_least(self):
         table = self.table()
-        self.assertIsNone(table.lower([-1, -1, 0, 0]))
+        self.assertIsNone(table.go_down([-1, -1, 0, 0]))
         self.assertEqual(self.told(table), [(8, 5), (6, 5), NOUGHT, NOUGHT])
         self.assertEqual(part(-table.costs_left([-1, -1, 0, 0])[-1], table.bottom), (-14, 5))
 
@@ -47,20 +47,20 @@ class TestTable(unittest.TestCase):
 
     def test_falling_without_end(self):
         table = Table([[1, -1, 1, 3]], [2])
-        self.assertEqual(table.lower([0, -1, 0]), 1)
+        self.assertEqual(table.go_down([0, -1, 0]), 1)
         self.assertEqual([table.pace(column, 1) for column in range(3)], [NOUGHT, ONE, ONE])
 
     def test_shut_columns_stay_nought(self):
         table = self.table()
-        self.assertIsNone(table.lower([1, 0, 0, 0]))
+        self.assertIsNone(table.go_down([1, 0, 0, 0]))
         table.shut_rising([1, 0, 0, 0], 0)
         self.assertEqual(table.shut, {0: 0})
-        self.assertIsNone(table.lower([-5, -1, 0, 0]))
+        self.assertIsNone(table.go_down([-5, -1, 0, 0]))
         self.assertEqual(self.told(table), [NOUGHT, (2, 1), NOUGHT, (4, 1)])
 
     def test_no_lines_and_no_columns(self):
-        self.assertIsNone(Table([], []).lower([]))
-        self.assertEqual(Table([], []).lower([1, -1]), 1)
+        self.assertIsNone(Table([], []).go_down([]))
+        self.assertEqual(Table([], []).go_down([1, -1]), 1)
 
     def test_the_first_column_and_the_first_line_go(self):
         # Only so is it sure that no corner comes again.
@@ -73,7 +73,7 @@ class TestTable(unittest.TestCase):
     def test_many_lines_that_stop_at_once(self):
         costs = [-3, 80, -2, 24, 0, 0, 0]
         table = Table([[1, -32, -4, 36, 1, 0, 0, 0], [1, -24, -1, 6, 0, 1, 0, 0], [0, 0, 1, 0, 0, 0, 1, 1]], [4, 5, 6])
-        self.assertIsNone(table.lower(costs))
+        self.assertIsNone(table.go_down(costs))
         self.assertEqual(table.costs_left(costs)[-1], 5 * table.bottom)
 
 
