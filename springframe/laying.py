@@ -11,14 +11,18 @@ def goals_of(unknowns):
     return list(range(1, MOST_RANK + 1)) + list(unknowns)
 
 
+def goal_costs(sheet, unknowns):
+    """What the sheet's columns cost in what is missed of the musts, and then in each goal."""
+    ranks = [sheet.rank_costs(rank) for rank in range(MUST, MOST_RANK + 1)]
+    return ranks + [sheet.sum_costs({unknown: ONE}) for unknown in unknowns]
+
+
 def settled_sheet(rows, unknowns):
     """The sheet of the rows with every goal settled; in front of the goals are the musts."""
     check_many(rows, unknowns)
     sheet = fitted(rows, unknowns, list(range(len(rows))))
-    for rank in range(MUST + 1, MOST_RANK + 1):
-        sheet.settle(sheet.rank_costs(rank))
-    for unknown in unknowns:
-        sheet.settle(sheet.sum_costs({unknown: ONE}))
+    for costs in goal_costs(sheet, unknowns)[1:]:
+        sheet.settle(costs)
     return sheet
 
 

@@ -12,10 +12,11 @@ WEIGHT_FIGURES = 7
 
 
 class Reader:
-    """The words of a text, read from the first to the last."""
+    """The words of a text, read from the first to the last, and the names that its holes stand for."""
 
-    def __init__(self, text):
+    def __init__(self, text, names):
         self.words = text.split(" ")
+        self.names = names
         self.place = 0
         if len(self.words) > MOST_WORDS:
             raise NoWish("a text has at most sixty words")
@@ -62,10 +63,18 @@ class Reader:
     def read_edge(self, word):
         """What the word tells of the name that stands ahead."""
         self.expect("of")
-        name = self.step()
+        name = self.read_name()
         if not is_name(name) or (name == FRAME and word in SPANS):
             raise NoWish("this is not the name of such a thing")
         return Edge(word, name)
+
+    def read_name(self):
+        """The word that stands ahead or, where it is a hole, the name that it stands for."""
+        word = self.step()
+        # Only here is a figure a hole: elsewhere it is a number. A hole that has no name stays a figure, so no name.
+        if is_whole(word, 1) and 1 <= int(word) <= len(self.names):
+            return self.names[int(word) - 1]
+        return word
 
     def read_terms(self):
         """The sum that stands ahead: as many terms as go on by `and` and `less`, the left ones first."""
@@ -110,7 +119,7 @@ class Reader:
 
 def read_sum(text):
     """The term that the text writes."""
-    reader = Reader(text)
+    reader = Reader(text, [])
     term = reader.read_terms()
     reader.finish()
     return term
@@ -118,7 +127,12 @@ def read_sum(text):
 
 def read_wish(text):
     """The wish that the text writes."""
-    reader = Reader(text)
+    return read_filled(text, [])
+
+
+def read_filled(text, names):
+    """The wish that the text writes where each hole, a figure in the place of a name, is the name of that number."""
+    reader = Reader(text, names)
     near = reader.read_terms()
     verb = reader.read_verb()
     far = reader.read_terms()

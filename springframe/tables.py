@@ -83,6 +83,8 @@ class Table:
     def turn(self, number, column):
         """Solves the line of this number for another column."""
         turned = self.lines[number]
+        if turned[column] < 0:
+            turned = [-entry for entry in turned]
         middle = turned[column]
         lines = []
         for line in self.lines:

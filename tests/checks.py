@@ -1,8 +1,10 @@
-"""What the tests add up by themselves: placings, prices, ways, clashes and papers, by Python's own fractions."""
+"""What the tests add up by themselves: placings, prices, ways, clashes, papers, growth, by Python's own fractions."""
 
 import random
 from fractions import Fraction
 
+from springframe.errors import Clash
+from springframe.laying import laid
 from springframe.rows import row
 
 NOUGHT = (0, 1)
@@ -154,6 +156,62 @@ def check_laid(case, rows, unknowns, told):
         case.assertEqual(check_paper(case, rows, unknowns, settled[:place], pair[0], papers[place]), value)
 
 
+def told_by(value):
+    """The fraction as the program has it."""
+    value = Fraction(value)
+    return (value.numerator, value.denominator)
+
+
+def grown(growing, width):
+    """The rows that growing rows are at a width."""
+    return [(one[0], one[1], told_by(of(one[2]) + of(pace) * width), one[3], one[4]) for one, pace in growing]
+
+
+def laid_anew(case, growing, unknowns, width):
+    """The placing of the rows at a width, shown by its papers to be the only one, or None where they clash."""
+    rows = grown(growing, width)
+    try:
+        told = laid(rows, unknowns)
+    except Clash as clash:
+        check_weights(case, rows, unknowns, clash.numbers, clash.weights)
+        return None
+    check_laid(case, rows, unknowns, told)
+    return told[0]
+
+
+def check_piece(case, growing, unknowns, begin, placing, piece, spots):
+    """The piece tells what laying out anew tells at so many widths up to its end; told is the placing there."""
+    case.assertIs(type(piece), tuple)
+    to, paces = piece
+    case.assertIs(type(paces), dict)
+    case.assertEqual(list(paces), list(unknowns))
+    case.assertGreater(exact(case, to), begin)
+    for spot in range(1, spots + 1):
+        step = (of(to) - begin) * Fraction(spot, spots)
+        reckoned = {unknown: told_by(of(placing[unknown]) + exact(case, paces[unknown]) * step) for unknown in unknowns}
+        case.assertEqual(laid_anew(case, growing, unknowns, begin + step), reckoned)
+    return reckoned
+
+
+def check_growth(case, growing, unknowns, start, stop, told, spots=4):
+    """What growth told: the same as laying out anew at start, within the pieces and at their ends, and no less of it."""
+    case.assertIs(type(told), tuple)
+    placing, pieces = told
+    begin = of(start)
+    case.assertEqual(laid_anew(case, growing, unknowns, begin), placing)
+    case.assertEqual(list(placing), list(unknowns))
+    case.assertIs(type(pieces), list)
+    case.assertLessEqual(len(pieces), 40)
+    for place, piece in enumerate(pieces):
+        placing = check_piece(case, growing, unknowns, begin, placing, piece, spots)
+        case.assertNotEqual(piece[1], pieces[place - 1][1] if place else None)
+        begin = of(piece[0])
+    case.assertLessEqual(begin, of(stop))
+    if begin < of(stop) and len(pieces) < 40:
+        for part_of_it in (1, Fraction(1, 10 ** 9)):
+            case.assertIsNone(laid_anew(case, growing, unknowns, begin + (of(stop) - begin) * part_of_it))
+
+
 class Draw:
     """Rows drawn by lot, the same each time."""
 
@@ -181,6 +239,11 @@ class Draw:
             rows.append(row(parts, chance.choice(("least", "most", "just")), self.fraction(figures),
                             chance.choice(ranks), chance.choice((1, 1, 2, 5, 10 ** 6))))
         return (rows, unknowns)
+
+    def growing(self, figures, most_rows, most_unknowns, ranks):
+        """(growing, unknowns)."""
+        rows, unknowns = self.rows(figures, most_rows, most_unknowns, ranks)
+        return ([(one, self.fraction(figures) if self.chance.random() < 0.7 else NOUGHT) for one in rows], unknowns)
 
     def sum(self, figures, unknowns):
         parts = {unknown: self.fraction(figures) for unknown in unknowns}

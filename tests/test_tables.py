@@ -45,6 +45,15 @@ class TestTable(unittest.TestCase):
         table.turn(1, 0)
         self.assertEqual(self.told(table), [(8, 5), (6, 5), NOUGHT, NOUGHT])
 
+    def test_a_line_solved_for_a_column_below_nought(self):
+        # x - 2 y + p = 4, solved for p: for y it is - x / 2 + y - p / 2 = - 2.
+        table = Table([[1, -2, 1, 0, 4], [3, 1, 0, 1, 6]], [2, 3])
+        table.turn(0, 1)
+        self.assertEqual((table.lines, table.solved, table.bottom), ([[-1, 2, -1, 0, -4], [7, 0, 1, 2, 16]], [1, 3], 2))
+        self.assertEqual(self.told(table), [NOUGHT, (-2, 1), NOUGHT, (8, 1)])
+        table.turn(0, 0)
+        self.assertEqual(self.told(table), [(4, 1), NOUGHT, NOUGHT, (-6, 1)])
+
     def test_falling_without_end(self):
         table = Table([[1, -1, 1, 3]], [2])
         self.assertEqual(table.go_down([0, -1, 0]), 1)
