@@ -2,14 +2,11 @@
 
 from springframe.laying import goal_costs, placed
 from springframe.parts import NOUGHT, minus, part, plus, times, under
-from springframe.rows import row
 from springframe.tables import Sheet, common_bottom, whole_numbers
 
 MOST_PIECES = 40
 # How much wider it is than at the start is one unknown more; a text without signs is no other unknown's.
 WIDER = ""
-# Marks the column of that unknown as shut, whatever goals are settled.
-NO_GOAL = -1
 
 
 def rows_at(growing, width):
@@ -21,7 +18,7 @@ def widening_row(one, pace):
     """The row, by its number at the start, that asks for the number at each greater width."""
     parts = dict(one[0])
     parts[WIDER] = minus(NOUGHT, pace)
-    return row(parts, one[1], one[2], one[3], one[4])
+    return (parts, one[1], one[2], one[3], one[4])
 
 
 class Walk:
@@ -36,7 +33,8 @@ class Walk:
         sheet = Sheet([widening_row(one, pace) for one, pace in zip(rows, paces)], list(unknowns) + [WIDER])
         self.table = sheet.table
         self.wider = len(unknowns)
-        self.table.shut[self.wider] = NO_GOAL
+        # No goal shuts this column: it stays shut whatever is settled.
+        self.table.shut[self.wider] = None
         self.unknowns = list(unknowns)
         self.goals = []
         for costs in goal_costs(sheet, unknowns):

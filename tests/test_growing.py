@@ -176,6 +176,10 @@ class TestGrowth(GrowingCase):
                    (row({"x": (3, 10 ** 12 - 39), "y": ONE}, "just", (10 ** 12 - 1, 7), 2, 10 ** 6), (-10 ** 12 + 1, 13))]
         self.assertEqual(len(self.told(growing, ["x", "y"], start, stop)[1]), 2)
 
+    def test_a_weight_somewhat_beyond_the_bound(self):
+        growing = [(({"x": ONE}, "just", NOUGHT, 2, 10 ** 6 + 1), ONE), (({"x": ONE}, "just", ONE, 2, 10 ** 6), NOUGHT)]
+        self.assertEqual(self.told(growing, ["x"], NOUGHT, ONE)[1], [(ONE, {"x": ONE})])
+
     def test_rows_drawn_by_lot(self):
         draw = Draw(61)
         seen = []
